@@ -1,0 +1,1 @@
+"""Fewthrows: results that can be checked with few throws."""
