@@ -17,6 +17,11 @@ NO_NUMBERS = [
     (-1,), (0, -1), (10 ** 299,), (3, 10 ** 299), range(3), 2.0, 3.0, b'a',
 ]
 
+# Values that are no name, of a table, function, parameter or whatever.
+NO_NAMES = NO_NUMBERS + [
+    0, 1, 'A', 'aB', 'a b', ' a', 'a ', 'a1', 'a_', 'ninelette', 'z' * 100, '\n', 'a\n', ('a',), ['a'], {'a': 1}, b'a',
+]
+
 NO_PRIMES = NO_NUMBERS + [0, 1, 2, 4, 9, 15, 1000001, 1000002, 1000004, 1000005, 1000033]
 
 
@@ -41,7 +46,8 @@ class Wrong:
         self.function = function
         self.right = right
         self.wrong = wrong
-        assert list(right) == list(wrong), function
+        # Books and talks have no wrong values; the others stand in their order.
+        assert [name for name in right if name in wrong] == list(wrong), function
 
 
 def said_by(test, function, arguments):
@@ -53,7 +59,7 @@ def said_by(test, function, arguments):
 
 def try_wrong(test, case):
     """Each wrong value alone raises its error with this very value."""
-    test.assertIsInstance(case.function(**case.right), (int, tuple))
+    test.assertIsNotNone(case.function(**case.right))
     for name, (error, values) in case.wrong.items():
         for value in values:
             with test.subTest(function=case.function.__name__, name=name, value=str(value)[:60]):

@@ -4,6 +4,9 @@ import importlib
 import inspect
 import unittest
 
+from fewthrows.books import Book
+from fewthrows.talks import Talk
+
 FUNCTIONS = {
     'residues': {'inverse_of': 'prime residue'},
     'polynomials': {
@@ -22,7 +25,35 @@ FUNCTIONS = {
         'folded_table': 'prime table residue',
         'along_line': 'prime table one other',
     },
+    'books': {'value_of': 'book function point', 'result_of': 'book', 'calls_in': 'book function'},
+    'degrees': {
+        'degree_in': 'book function name',
+        'round_degrees': 'book function',
+        'steps_of': 'book',
+        'throws_many': 'book',
+        'told_many': 'book',
+        'number_along': 'book way',
+        'number_of': 'book',
+        'worst_way': 'book',
+        'is_plain': 'book',
+    },
+    'talks': {'right_claims': 'talk'},
+    'tellers': {
+        'honest_answer': 'book ask',
+        'lucky_answer': 'talk',
+        'judged': 'book value answers throws',
+        'talk_of': 'book value answers throws',
+    },
 }
+# For each class its arguments, its methods with theirs, and its attributes.
+CLASSES = {
+    'books': {'Book': ('text', {'__len__': '', '__contains__': None, '__eq__': None}, 'text prime tables functions')},
+    'talks': {
+        'Talk': (
+            'book value', {'hear': 'answer', 'throw': 'residue', 'copy': ''}, 'book value ask step throws claims'),
+    },
+}
+BOOK = 'prime 5\nlet f x = : x\nlet out = sum x : x'
 
 
 class Interface(unittest.TestCase):
@@ -34,11 +65,36 @@ class Interface(unittest.TestCase):
                     function = getattr(importlib.import_module(path), name)
                     self.assertTrue(inspect.isfunction(function))
                     self.assertEqual(function.__module__, path)
-                    listed = inspect.signature(function).parameters
-                    self.assertEqual(list(listed), parameters.split())
-                    for parameter in listed.values():
-                        self.assertIs(parameter.kind, parameter.POSITIONAL_OR_KEYWORD)
-                        self.assertIs(parameter.default, parameter.empty)
+                    self.check_parameters(function, parameters.split())
+
+    def check_parameters(self, function, names):
+        listed = inspect.signature(function).parameters
+        self.assertEqual(list(listed), names)
+        for parameter in listed.values():
+            self.assertIs(parameter.kind, parameter.POSITIONAL_OR_KEYWORD)
+            self.assertIs(parameter.default, parameter.empty)
+
+    def test_classes(self):
+        for module, classes in CLASSES.items():
+            path = 'fewthrows.' + module
+            for name, (parameters, methods, _) in classes.items():
+                with self.subTest(module=module, name=name):
+                    found = getattr(importlib.import_module(path), name)
+                    self.assertTrue(inspect.isclass(found))
+                    self.assertEqual(found.__module__, path)
+                    self.check_parameters(found, parameters.split())
+                    for method, names in methods.items():
+                        # Defined in the class itself, not in a base class.
+                        self.assertTrue(inspect.isfunction(vars(found)[method]))
+                        if names is not None:
+                            self.check_parameters(vars(found)[method], ['self'] + names.split())
+
+    def test_attributes_are_set_on_objects(self):
+        book = Book(BOOK)
+        for made in (book, Talk(book, 1)):
+            parts = CLASSES[made.__class__.__module__.split('.')[1]][made.__class__.__name__]
+            for name in parts[2].split():
+                self.assertIn(name, vars(made))
 
 
 if __name__ == '__main__':
