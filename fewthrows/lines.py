@@ -1,10 +1,9 @@
 """The lines of a book's text; each one that is not as told is a BadBook."""
 
 from fewthrows.bodies import calls_of, program_of
-from fewthrows.checks import is_prime
 from fewthrows.errors import BadBook
 from fewthrows.tables import LENGTHS, names_many
-from fewthrows.texts import is_name, number_in, residue_in
+from fewthrows.texts import is_name, prime_in, residue_in
 
 OPERATORS = ('sum', 'all', 'some', 'low')
 MOST_TABLES = 8
@@ -45,13 +44,6 @@ class Reading:
     def is_free(self, word):
         """Whether word is a name that no table and no function has."""
         return is_name(word) and word not in self.tables and word not in self.functions
-
-
-def prime_of(words):
-    """The prime that the first line tells."""
-    if len(words) != 2 or words[0] != 'prime' or not is_prime(number_in(words[1])):
-        raise BadBook(1)
-    return number_in(words[1])
 
 
 def read_table(reading, number, words):
@@ -118,7 +110,10 @@ def reading_of(text):
     if not isinstance(text, str):
         raise BadBook(0)
     lines = text.split('\n')
-    reading = Reading(prime_of(lines[0].split(' ')))
+    prime = prime_in(lines[0].split(' '))
+    if prime is None:
+        raise BadBook(1)
+    reading = Reading(prime)
     for number, line in enumerate(lines[1:], start=2):
         read_line(reading, number, line.split(' '))
     if reading.result == '':

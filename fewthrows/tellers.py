@@ -8,7 +8,7 @@ from fewthrows.meanings import Meaning
 from fewthrows.polynomials import raw_scaled, raw_sum, raw_value, raw_with_noughts
 from fewthrows.residues import raw_inverse
 from fewthrows.rings import PolynomialRing, ResidueRing, joined
-from fewthrows.talks import Talk, meaning_of, right_claims
+from fewthrows.talks import Talk, meaning_of
 
 
 def fitted(poly, many):
@@ -83,13 +83,12 @@ def lucky_answer(talk):
     if ask[0] != 'polynomial':
         raise BadAsk(ask)
     honest = raw_honest(book, ask)
-    if right_claims(talk) == (True,):
-        return honest
     prime = book.prime
     at = dict(ask[3]).get(ask[4], 0)
     low = raw_value(prime, honest, 0)
     high = raw_value(prime, honest, 1)
     true_value = joined(ResidueRing(prime), ask[2], low, high, at)
+    # If the claim is right, nothing lacks, and this is the honest answer.
     lack = (talk.claims[0][2] - true_value) % prime
     return raw_sum(prime, honest, lucky_difference(book, ask, lack))
 

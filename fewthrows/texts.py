@@ -1,5 +1,7 @@
 """Words of texts: names, and numbers as Python writes integers."""
 
+from fewthrows.checks import is_prime
+
 LETTERS = 'abcdefghijklmnopqrstuvwxyz'
 FIGURES = '0123456789'
 MOST_LETTERS = 8
@@ -33,3 +35,10 @@ def residue_in(prime, word):
     if number is None or number >= prime:
         return None
     return number
+
+
+def prime_in(words):
+    """The prime that the words of a line prime P tell; None if they are none."""
+    if len(words) != 2 or words[0] != 'prime' or not is_prime(number_in(words[1])):
+        return None
+    return number_in(words[1])

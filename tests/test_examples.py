@@ -10,7 +10,7 @@ FOLDER = pathlib.Path(__file__).parent / 'examples'
 class Examples(unittest.TestCase):
     def test_all(self):
         files = sorted(FOLDER.glob('section_*.txt'))
-        self.assertGreaterEqual(len(files), 5)
+        self.assertGreaterEqual(len(files), 8)
         for file in files:
             with self.subTest(file=file.name):
                 failed, tried = doctest.testfile(str(file), module_relative=False, report=True)

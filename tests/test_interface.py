@@ -5,6 +5,8 @@ import inspect
 import unittest
 
 from fewthrows.books import Book
+from fewthrows.circuits import Circuit
+from fewthrows.sayings import Saying
 from fewthrows.talks import Talk
 
 FUNCTIONS = {
@@ -44,6 +46,28 @@ FUNCTIONS = {
         'judged': 'book value answers throws',
         'talk_of': 'book value answers throws',
     },
+    'counts': {
+        'passes': 'book value answers',
+        'passing_rows': 'book value answers',
+        'lucky_throws': 'book value answers throws',
+        'repeated_share': 'share many',
+        'led_share': 'one other',
+        'greater_share': 'one other',
+        'repeats_for': 'share bound',
+    },
+    'games': {'greatest_passes': 'book value', 'greatest_answers': 'book value'},
+    'circuits': {
+        'gate_values': 'circuit',
+        'bent_values': 'circuit layer gate value',
+        'circuit_book': 'circuit',
+    },
+    'sayings': {
+        'is_true': 'saying',
+        'body_text': 'saying',
+        'saying_book': 'saying prime lowers',
+        'full_lowers': 'saying',
+        'least_lowers': 'saying most',
+    },
 }
 # For each class its arguments, its methods with theirs, and its attributes.
 CLASSES = {
@@ -52,6 +76,8 @@ CLASSES = {
         'Talk': (
             'book value', {'hear': 'answer', 'throw': 'residue', 'copy': ''}, 'book value ask step throws claims'),
     },
+    'circuits': {'Circuit': ('text', {'__eq__': None}, 'text prime inputs layers')},
+    'sayings': {'Saying': ('text', {'__eq__': None}, 'text names wants')},
 }
 BOOK = 'prime 5\nlet f x = : x\nlet out = sum x : x'
 
@@ -91,7 +117,7 @@ class Interface(unittest.TestCase):
 
     def test_attributes_are_set_on_objects(self):
         book = Book(BOOK)
-        for made in (book, Talk(book, 1)):
+        for made in (book, Talk(book, 1), Circuit('prime 3\ninputs 0 1\nlayer +0,1'), Saying('all x : x')):
             parts = CLASSES[made.__class__.__module__.split('.')[1]][made.__class__.__name__]
             for name in parts[2].split():
                 self.assertIn(name, vars(made))

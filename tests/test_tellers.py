@@ -131,6 +131,15 @@ class Asks(unittest.TestCase):
             self.bad(BOOK, ask + (0,))
             self.bad(BOOK, ask[:-1] + ([ask[-1]],))
 
+    def test_True_is_no_degree_and_no_step(self):
+        book = Book('prime 7\nlet f x = : x\nlet out = sum x sum y : f[x]*y+f[1]')
+        for ask in (('polynomial', 'out', 'sum', (), 'x', 1, 0), ('polynomial', 'out', 'sum', (('x', 1),), 'y', 1, 1),
+                    ('values', 'out', (('f', (1,)), ('f', (1,))), 2), ('line', 'f', (1,), (0,), 1, 3)):
+            honest_answer(book, ask)
+            for at, part in enumerate(ask):
+                if part.__class__ is int and part in (0, 1):
+                    self.bad(book, ask[:at] + (bool(part),) + ask[at + 1:])
+
     def test_points(self):
         for at in (2, 3):
             for point in ((3,), (3, 0, 0), (5, 0), (0, 5), (0, -1), (True, 0), (0, None), [3, 0], ((3, 0),), 30, '30'):
