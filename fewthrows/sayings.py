@@ -68,7 +68,7 @@ class SayingReader:
             raise BadSaying(self.place)
         return name
 
-    def body(self, depth):
+    def disjunction(self, depth):
         """Read things that are joined by |, nested so deep; returns the tree."""
         things = [self.conjunction(depth)]
         while self.sign() == '|' and self.used < MOST_IN_BODY:
@@ -94,7 +94,7 @@ class SayingReader:
             self.skip('!')
             return ('not', self.thing(depth + 1))
         self.skip('(')
-        tree = self.body(depth + 1)
+        tree = self.disjunction(depth + 1)
         self.skip(')')
         return tree
 
@@ -122,7 +122,7 @@ class Saying:
             raise BadSaying(-1)
         reader = SayingReader(text)
         reader.head()
-        self.tree = reader.body(0)
+        self.tree = reader.disjunction(0)
         if reader.place < len(text):
             raise BadSaying(reader.place)
         self.text = text

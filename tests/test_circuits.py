@@ -131,7 +131,7 @@ class Texts(unittest.TestCase):
         for at in range(1, 4):
             self.bad(at + 1, '\n'.join(good[:at]))
         self.bad(1, '', 'prime', 'prime 9', 'prime 2', 'prime 07', 'prime 7 ', ' prime 7', 'prime  7', 'Prime 7', 'prime -7', 'prime 7 7',
-                 'inputs 1 2', 'prime 1000005', 'prime 7\n'[:6], 'prime x', 'prime 0', 'prime 1')
+                 'inputs 1 2', 'prime 1000005', 'prime ', 'prime x', 'prime 0', 'prime 1')
         for line in ('', 'inputs', 'inputs 1', 'inputs 1 2 3', 'inputs 1 2 3 4 5', 'inputs 1 7', 'inputs 01 2', 'inputs 1 -2', 'inputs 1  2',
                      'inputs 1 2 ', ' inputs 1 2', 'input 1 2', 'inputs 1,2', 'inputs 1 x', 'layer +0,1', 'prime 7', 'inputs 1 2 3 4 5 6 0 1'):
             self.bad(2, 'prime 7\n' + line, 'prime 7\n' + line + '\nlayer +0,1')

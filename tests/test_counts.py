@@ -237,6 +237,17 @@ class Rows(unittest.TestCase):
         self.assertEqual([lucky_throws(book, 1, (), (throw,)) for throw in range(5)], [()] * 5)
         self.assertEqual(passes(book, 1, ()), 5)
 
+    def test_other_open_claims_do_not_count(self):
+        # The claim of f is wrong while g, and its throw, go by what is right.
+        book = Book('prime 5\nlet f x = sum y : x*y\nlet g x = sum y : x+y\nlet out = : f[1]+g[1]')
+        self.assertEqual(judged(book, 0, (((0, ()), (2, 3)),), (3, 3)), ('over', 'refused', 3))
+        for row in itertools.product(range(5), repeat=2):
+            self.assertEqual(lucky_throws(book, 0, (((0, ()), (2, 3)),), row), ())
+        # The third claim of f is wrong while the line goes through the first two.
+        book = Book('prime 5\nlet f x = : x\nlet out = : f[0]+f[1]+f[2]')
+        for row in itertools.product(range(5), repeat=2):
+            self.assertEqual(lucky_throws(book, 4, (((0, ()), (0, 1, 3)),), row), ())
+
 
 class Shares(unittest.TestCase):
     SHARES = [(0, 1), (1, 1), (1, 2), (2, 4), (0, 7), (7, 7), (9, 25), (24, 25), (1, 1000), (999, 1000), (3, 10 ** 299),

@@ -101,6 +101,14 @@ class Language(unittest.TestCase):
                 self.assertNotIn(node.attr, BARRED_ATTRIBUTES)
                 self.assertIsInstance(node.value, ast.Name)
 
+    def test_names_of_methods(self):
+        methods = {part.name for _, node in self.nodes(ast.ClassDef) for part in node.body if isinstance(part, ast.FunctionDef)}
+        stored = {node.attr for _, node in self.nodes(ast.Attribute) if isinstance(node.ctx, ast.Store)}
+        read = {node.attr for _, node in self.nodes(ast.Attribute)}
+        self.assertEqual(methods & stored, set())
+        self.assertLessEqual(read, methods | stored | METHODS)
+        self.assertLessEqual({name for name in methods if name.startswith('__')}, {'__init__', '__eq__', '__len__', '__contains__'})
+
     def test_methods_that_are_called(self):
         own = {node.name for _, node in self.nodes(ast.FunctionDef)}
         for path, node in self.nodes(ast.Call):
