@@ -11,8 +11,6 @@ from fewthrows.tellers import check_answers, check_throws, raw_honest, said_in, 
 MOST_ROWS = 3000
 MOST_TALKS = 40
 MOST_REPEATS = 1000
-# How often a share has to be doubled until it is repeated more often than that.
-DOUBLINGS = 10
 
 
 def check_rows_many(book, most):
@@ -123,15 +121,26 @@ def greater_share(one, other):
     return one if is_at_most(other, one) else other
 
 
-def most_above(share, bound):
-    """The greatest number of talks, of those that are tried, whose share is above bound."""
+def doubled_shares(share, bound):
+    """(1, share), and likewise for 2, 4, 8, .. talks as long as theirs is above bound, too."""
     doubled = [(1, share)]
-    for _ in range(DOUBLINGS - 1):
+    while 2 * doubled[-1][0] <= MOST_REPEATS:
         many, last = doubled[-1]
-        doubled.append((2 * many, both_let(last, last)))
+        further = both_let(last, last)
+        if is_at_most(further, bound):
+            return doubled
+        doubled.append((2 * many, further))
+    return doubled
+
+
+def most_above(share, bound):
+    """The greatest number of talks whose share is above bound, where that of one talk is.
+
+    Of numbers too great to be asked for, any such one.
+    """
     above = 0
     reached = (1, 1)
-    for many, power in reversed(doubled):
+    for many, power in reversed(doubled_shares(share, bound)):
         further = both_let(reached, power)
         if not is_at_most(further, bound):
             above += many
