@@ -2,7 +2,7 @@
 
 from math import isqrt
 
-from fewthrows.errors import BadPoint, BadPrime, BadResidue
+from fewthrows.errors import BadNumber, BadPoint, BadPrime, BadResidue
 
 GREATEST_PRIME = 1000003
 
@@ -51,3 +51,9 @@ def check_point(prime, value, many):
     """Raise BadPoint unless value is a tuple of so many residues."""
     if not are_residues(prime, value, many, many):
         raise BadPoint(value)
+
+
+def check_between(value, least, most):
+    """Raise BadNumber unless value is an integer from least to most."""
+    if not is_integer(value) or not least <= value <= most:
+        raise BadNumber(value)

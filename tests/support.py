@@ -40,12 +40,17 @@ def value_by_powers(prime, poly, residue):
 
 
 class Wrong:
-    """A function, right arguments in order, and (error, wrong values) for each."""
+    """A function, right arguments in order, and (error, wrong values) for each.
 
-    def __init__(self, function, right, wrong):
+    order has the names in the order in which their errors come, where it is not that of the parameters.
+    """
+
+    def __init__(self, function, right, wrong, order=None):
         self.function = function
         self.right = right
         self.wrong = wrong
+        self.order = order.split() if order else list(wrong)
+        assert sorted(self.order) == sorted(wrong), function
         # Books and talks have no wrong values; the others stand in their order.
         assert [name for name in right if name in wrong] == list(wrong), function
 
@@ -72,8 +77,8 @@ def try_wrong(test, case):
 
 
 def try_order(test, case):
-    """Of several wrong values the one of the first parameter is told."""
-    names = list(case.wrong)
+    """Of several wrong values the one whose error comes first is told."""
+    names = case.order
     for at, first in enumerate(names):
         error, values = case.wrong[first]
         for later in names[at + 1:]:
