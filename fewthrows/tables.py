@@ -28,6 +28,15 @@ def raw_table_value(prime, table, point):
     return table[0]
 
 
+def raw_weight(prime, place, point):
+    """The weight of the place at the point."""
+    weight = 1
+    for bit, residue in zip(place, point):
+        factor = residue if bit == 1 else 1 - residue
+        weight = weight * factor % prime
+    return weight
+
+
 def raw_mixed(prime, low, high, along):
     """low + along * (high - low), all of them polynomials."""
     rise = raw_product(prime, along, raw_difference(prime, high, low))
@@ -84,11 +93,7 @@ def place_weight(prime, place, point):
     if not is_place(place):
         raise BadPlace(place)
     check_point(prime, point, len(place))
-    weight = 1
-    for bit, residue in zip(place, point):
-        factor = residue if bit == 1 else 1 - residue
-        weight = weight * factor % prime
-    return weight
+    return raw_weight(prime, place, point)
 
 
 def folded_table(prime, table, residue):

@@ -11,7 +11,7 @@ README = pathlib.Path(__file__).parent.parent / 'README.md'
 class Examples(unittest.TestCase):
     def test_all(self):
         files = sorted(FOLDER.glob('section_*.txt'))
-        self.assertGreaterEqual(len(files), 8)
+        self.assertGreaterEqual(len(files), 15)
         for file in files:
             with self.subTest(file=file.name):
                 failed, tried = doctest.testfile(str(file), module_relative=False, report=True)

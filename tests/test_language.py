@@ -93,7 +93,26 @@ class Language(unittest.TestCase):
             self.assertEqual(node.decorator_list, [])
             self.assertIsNone(node.args.vararg or node.args.kwarg)
             self.assertEqual(node.args.defaults + node.args.kwonlyargs + node.args.posonlyargs, [])
-        self.assertEqual(list(self.nodes((ast.Try, ast.With, ast.Match, ast.Nonlocal, ast.Assert, ast.Delete, ast.JoinedStr))), [])
+        self.assertEqual(list(self.nodes((ast.With, ast.Match, ast.Nonlocal, ast.Assert, ast.Delete, ast.JoinedStr))), [])
+        own = {node.name for path, node in self.nodes(ast.ClassDef) if path.stem == 'errors'}
+        for _, node in self.nodes(ast.Try):
+            self.assertEqual(node.finalbody + node.orelse, [])
+            for handler in node.handlers:
+                self.assertIn(handler.type.id, own)
+
+    def test_what_is_raised(self):
+        own = {node.name for path, node in self.nodes(ast.ClassDef) if path.stem == 'errors'}
+        for path, node in self.nodes(ast.Raise):
+            self.assertIn(node.exc.func.id, own, path)
+            self.assertEqual((len(node.exc.args), node.exc.keywords), (1, []))
+            self.assertTrue(node.cause is None or node.cause.value is None)
+
+    def test_stars_in_calls(self):
+        for path, node in self.nodes(ast.Call):
+            for part in node.args:
+                if isinstance(part, ast.Starred):
+                    self.assertIsInstance(part.value, ast.Name, path)
+                    self.assertIn(node.func.id, ('zip', 'action'))
 
     def test_names_of_attributes(self):
         for _, node in self.nodes(ast.Attribute):
