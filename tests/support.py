@@ -99,3 +99,21 @@ def try_by_position(test, case):
     value = case.function(**case.right)
     test.assertEqual(case.function(*case.right.values()), value)
     test.assertEqual(case.function(**dict(reversed(list(case.right.items())))), value)
+
+
+class TriedCases:
+    """Tests of the cases of a TestCase that has them as its cases."""
+
+    def test_each_alone(self):
+        for case in self.cases:
+            try_wrong(self, case)
+
+    def test_first_is_told(self):
+        for case in self.cases:
+            try_order(self, case)
+
+    def test_by_position_and_name(self):
+        for case in self.cases:
+            # Two objects of a class of which nothing is said are not equal.
+            if not isinstance(case.function, type):
+                try_by_position(self, case)

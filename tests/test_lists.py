@@ -12,7 +12,7 @@ from fewthrows.lists import (
     folded_rows, grown_value, lets_each_once, lets_merged, lets_pile, lets_rows, lets_shuffle, lets_sorted, pile_value,
     piles_letting, rows_bound, same_pile, throws_letting,
 )
-from tests.support import NO_NUMBERS, NO_PRIMES, Wrong, numbers, residues, said_by, try_by_position, try_order, try_wrong
+from tests.support import NO_NUMBERS, NO_PRIMES, TriedCases, Wrong, numbers, residues, said_by
 
 PRIMES = (3, 5, 7, 101, 1009, 1000003)
 PRIME = (BadPrime, NO_PRIMES)
@@ -89,18 +89,8 @@ def some_rows(seeds, primes, most=40):
             yield source, prime, one, other
 
 
-class Arguments(unittest.TestCase):
-    def test_each_alone(self):
-        for case in CASES:
-            try_wrong(self, case)
-
-    def test_first_is_told(self):
-        for case in CASES:
-            try_order(self, case)
-
-    def test_by_position_and_name(self):
-        for case in CASES:
-            try_by_position(self, case)
+class Arguments(TriedCases, unittest.TestCase):
+    cases = CASES
 
     def raises(self, function, arguments, error, value):
         raised = said_by(self, function, arguments)
@@ -133,6 +123,8 @@ class Arguments(unittest.TestCase):
                 continue
             self.raises(lets_rows, {'prime': 7, 'one': rows[0], 'other': rows[1], 'y': 7, 'z': 7}, BadWidth, (one, other))
             self.raises(throws_letting, {'prime': 103, 'one': rows[0], 'other': rows[1]}, BadWidth, (one, other))
+            lone = [((1,) * width,) for width in (one, other)]
+            self.raises(lets_rows, {'prime': 7, 'one': lone[0], 'other': lone[1], 'y': 7, 'z': 7}, BadWidth, (one, other))
         self.assertIs(lets_rows(7, (), (), 0, 0), True)
 
     def test_too_few(self):

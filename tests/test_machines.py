@@ -9,7 +9,7 @@ import unittest
 from fewthrows.errors import BadMachine, BadNumber, BadPair, BadPrime, BadResidue, BadRun, BadState, BadValues
 from fewthrows.machines import Machine, looked_at, plain_run, run_cells, step_fits
 from fewthrows.stores import cells_told, store_bound, tallies
-from tests.support import DEEP, NO_NUMBERS, Wrong, numbers, residues, said_by, try_by_position, try_order, try_wrong
+from tests.support import DEEP, NO_NUMBERS, TriedCases, Wrong, numbers, residues, said_by
 
 TEXT = 'prime 101\nplaces 2\nset 0 1\ntake 1 0\nadd 1 1 1\nkeep 1 0\nhalt'
 MACHINE = Machine(TEXT)
@@ -193,18 +193,10 @@ def led_on(source, machine, run, at, pair):
     return tuple(states), tuple(told + [pair]), run[2]
 
 
-class Arguments(unittest.TestCase):
-    def test_each_alone(self):
-        for case in CASES:
-            try_wrong(self, case)
+class Arguments(TriedCases, unittest.TestCase):
+    cases = CASES
 
-    def test_first_is_told(self):
-        for case in CASES:
-            try_order(self, case)
-
-    def test_by_position_and_name(self):
-        for case in CASES:
-            try_by_position(self, case)
+    def test_text_by_name(self):
         self.assertEqual(Machine(text=TEXT), MACHINE)
 
     def test_text_is_a_string(self):

@@ -8,7 +8,7 @@ from fewthrows.products import (
     chain_product, chain_work, lets_chain, lets_pair, lets_power, lets_vector, letting_rows, matrix_product, matrix_rank,
     matrix_times, pairs_letting, powers_letting, reduced_rows, vectors_letting,
 )
-from tests.support import NO_NUMBERS, NO_PRIMES, Wrong, numbers, residues, said_by, try_by_position, try_order, try_wrong
+from tests.support import NO_NUMBERS, NO_PRIMES, TriedCases, Wrong, numbers, residues, said_by
 
 PRIMES = (3, 5, 7, 101, 1009, 1000003)
 ONE, OTHER, CLAIM = ((1, 2), (3, 4)), ((1, 0, 2), (1, 1, 0)), ((3, 2, 2), (2, 4, 0))
@@ -109,18 +109,8 @@ def span(prime, rows, many):
     ]
 
 
-class Arguments(unittest.TestCase):
-    def test_each_alone(self):
-        for case in CASES:
-            try_wrong(self, case)
-
-    def test_first_is_told(self):
-        for case in CASES:
-            try_order(self, case)
-
-    def test_by_position_and_name(self):
-        for case in CASES:
-            try_by_position(self, case)
+class Arguments(TriedCases, unittest.TestCase):
+    cases = CASES
 
     def test_eight_and_nine(self):
         for prime in (3, 1000003):

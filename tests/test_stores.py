@@ -9,7 +9,7 @@ from fewthrows.errors import BadAnswers, BadJob, BadNumber, BadPrime, BadResidue
 from fewthrows.stores import (
     burnt_answers, cells_told, first_wrong, plain_answers, store_bound, store_rows_let, tallies,
 )
-from tests.support import NO_NUMBERS, NO_PRIMES, Wrong, numbers, said_by, try_by_position, try_order, try_wrong
+from tests.support import NO_NUMBERS, NO_PRIMES, TriedCases, Wrong, numbers, said_by
 
 VALUES = (5, 7)
 JOB = (('read', 0), ('put', 1, 2), ('read', 1))
@@ -140,18 +140,8 @@ def stores(seeds, most=1000002, **more):
             yield source, values, job, answers, right
 
 
-class Arguments(unittest.TestCase):
-    def test_each_alone(self):
-        for case in CASES:
-            try_wrong(self, case)
-
-    def test_first_is_told(self):
-        for case in CASES:
-            try_order(self, case)
-
-    def test_by_position_and_name(self):
-        for case in CASES:
-            try_by_position(self, case)
+class Arguments(TriedCases, unittest.TestCase):
+    cases = CASES
 
     def raises(self, function, arguments, error, value):
         raised = said_by(self, function, arguments)

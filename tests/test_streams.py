@@ -9,7 +9,7 @@ from fewthrows.errors import BadChange, BadResidue, BadThrows, BadWatch, NoWatch
 from fewthrows.streams import KeptTalk, Watch, changed_book, knowing_answers, shows_knowing
 from fewthrows.talks import Talk
 from fewthrows.tellers import honest_answer, judged
-from tests.support import DEEP, NO_NAMES, NO_NUMBERS, Wrong, numbers, residues, said_by, try_by_position, try_order, try_wrong
+from tests.support import DEEP, NO_NAMES, NO_NUMBERS, TriedCases, Wrong, numbers, residues, said_by
 
 TEXT = 'prime 5\ntable t 1 2 0 3\ntable u 4 1\nlet f a = : a\nlet out = sum x sum y : t[x,y]*u[y]^2+t[y,x]*t[x,y]-x'
 BOOK = Book(TEXT)
@@ -105,18 +105,10 @@ def cells_by_rule(book, throws):
     return tuple(dict.fromkeys(cell for _, cell in sorted(cells)))
 
 
-class Arguments(unittest.TestCase):
-    def test_each_alone(self):
-        for case in CASES:
-            try_wrong(self, case)
+class Arguments(TriedCases, unittest.TestCase):
+    cases = CASES
 
-    def test_first_is_told(self):
-        for case in CASES:
-            try_order(self, case)
-
-    def test_by_position_and_name(self):
-        for case in CASES[1:]:
-            try_by_position(self, case)
+    def test_more_by_name(self):
         self.assertEqual(Watch(BOOK, (2, 3)).cells, Watch(throws=(2, 3), book=BOOK).cells)
         self.assertEqual(changed_book(changes=(('t', (0, 1), 3),), book=BOOK), changed_book(BOOK, (('t', (0, 1), 3),)))
         one, other = Watch(BOOK, (2, 3)), Watch(BOOK, (2, 3))

@@ -5,7 +5,7 @@ import unittest
 
 from fewthrows.errors import BadBits, BadNumber
 from fewthrows.threelooks import mended_bits, nearest_straight, pairs_let, rows_let, straight_distances, straight_table
-from tests.support import NO_NUMBERS, Wrong, numbers, said_by, try_by_position, try_order, try_wrong
+from tests.support import NO_NUMBERS, TriedCases, Wrong, numbers, said_by
 
 NO_BITS = NO_NUMBERS + [
     0, 1, (0, 1, 0), (0, 2), (0, -1), (True, 0), (0, False), [0, 1], (0, None), (0, '1'), ((0, 1),), (0,) * 512, (0,) * 255, (0,) * 257, (1,) * 6,
@@ -47,18 +47,8 @@ def looked(bits):
     return sum(bits[x ^ y] == (bits[x] != bits[y]) for x in range(len(bits)) for y in range(len(bits)))
 
 
-class Arguments(unittest.TestCase):
-    def test_each_alone(self):
-        for case in CASES:
-            try_wrong(self, case)
-
-    def test_first_is_told(self):
-        for case in CASES:
-            try_order(self, case)
-
-    def test_by_position_and_name(self):
-        for case in CASES:
-            try_by_position(self, case)
+class Arguments(TriedCases, unittest.TestCase):
+    cases = CASES
 
     def test_edges(self):
         for many in range(9):
